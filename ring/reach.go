@@ -57,6 +57,14 @@ func next(h api.Hand) (func(*reach) api.Errno, api.Errno) {
 	return access, api.OK
 }
 
+// nextIn is the next access of a hand in a deque, if both may be.
+func nextIn(m api.Mem, q api.Deque, h api.Hand) (func(*reach) api.Errno, api.Errno) {
+	if e := Check(m, q); e != api.OK {
+		return nil, e
+	}
+	return next(h)
+}
+
 // do is the one access of cells that each of the table's does. By cell.Do its cells are new, of a load as well.
 func (r *reach) do(kind, at int, a, b int64) (int64, api.Errno) {
 	cells, told, e := cell.Do(r.cells, api.Mic{Kind: kind, At: r.deque.Base + at, A: a, B: b})

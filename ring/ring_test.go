@@ -306,20 +306,15 @@ func TestStepOfWhatHasEnded(t *testing.T) {
 		for _, m := range []api.Mem{in(1, 2, 7, 8, 9), in(-1, -2, 7, 8, 9)} {
 			after, then, e := Step(m, three, h)
 			zero(t, "step of what has ended", after, then, e, api.ErrState)
-			after, then, e = Solo(m, three, h)
-			zero(t, "solo of what has ended", after, then, e, api.ErrState)
 		}
 	}
 }
 
 // P7.3
 
-// TestSolo holds it against Step after Step, from whatever access on, in whatever cells.
+// TestSolo holds it against Step after Step, from whatever access on, of hands that have ended as well, in whatever cells.
 func TestSolo(t *testing.T) {
 	for _, h := range someHands() {
-		if h.State != api.Going {
-			continue
-		}
 		for _, top := range []int64{-1, 0, 1, 2, 3, most, most + 1} {
 			for _, bottom := range []int64{-1, 0, 1, 2, 3, 4, most, most + 1} {
 				m, want, e := in(top, bottom, 7, 8, 9), h, api.OK
@@ -336,6 +331,48 @@ func TestSolo(t *testing.T) {
 					t.Errorf("%v in %d, %d: %v, %v, error %d, and not %v, %v, error %d", h, top, bottom, after, then, got, m, want, e)
 				}
 			}
+		}
+	}
+}
+
+// TestSoloOfWhatHasEnded holds that there is no Step then, and so no error of one, whatever the cells hold, and that the cells are new all the same.
+func TestSoloOfWhatHasEnded(t *testing.T) {
+	for _, h := range someHands() {
+		if h.State == api.Going {
+			continue
+		}
+		for _, x := range []struct {
+			m api.Mem
+			q api.Deque
+		}{
+			{in(1, 2, 7, 8, 9), three}, {in(-1, -2, 7, 8, 9), three}, {in(math.MaxInt64, most+1, 7, 8, 9), three}, {in(3, 0, 7, 8, 9), three},
+			{api.Mem{0, 0, 0}, api.Deque{Base: 0, Cap: 1}}, {api.Mem{5, math.MinInt64, -1, 4}, api.Deque{Base: 1, Cap: 1}}, {make(api.Mem, 1026), api.Deque{Base: 0, Cap: 1024}},
+		} {
+			before := slices.Clone(x.m)
+			after, then, e := Solo(x.m, x.q, h)
+			if !slices.Equal(after, before) || then != h || e != api.OK {
+				t.Fatalf("%v, %v: %v, %v, error %d", x.q, h, after, then, e)
+			}
+			for i := range after {
+				after[i]++
+			}
+			if !slices.Equal(x.m, before) {
+				t.Errorf("%v, %v: what was handed in changed with what was told", x.q, h)
+			}
+		}
+	}
+}
+
+// TestSoloAgain holds that what it told it tells once more, where that is handed in again.
+func TestSoloAgain(t *testing.T) {
+	for _, h := range someHands() {
+		m, once, e := Solo(in(1, 3, 7, 8, 9), three, h)
+		if e != api.OK {
+			continue
+		}
+		again, twice, e := Solo(m, three, once)
+		if !slices.Equal(again, m) || twice != once || e != api.OK {
+			t.Errorf("%v: %v, %v, error %d, and not %v, %v", h, again, twice, e, m, once)
 		}
 	}
 }
