@@ -102,14 +102,14 @@ func mayBe(h []api.Timer) bool {
 	if len(h) > 256 {
 		return false
 	}
+	l := ids(h)
+	slices.Sort(l)
+	if len(slices.Compact(l)) != len(h) {
+		return false
+	}
 	for i, t := range h {
 		if t.At < 0 || t.At > 1<<50 || t.Id < 0 {
 			return false
-		}
-		for _, other := range h[:i] {
-			if other.Id == t.Id {
-				return false
-			}
 		}
 		for _, under := range []int{4*i + 1, 4*i + 2, 4*i + 3, 4*i + 4} {
 			if under < len(h) && comesAhead(h[under], t) {
